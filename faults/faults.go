@@ -31,7 +31,7 @@ func (a *At) Error() string {
 		return parts[0]
 	}
 	for a.Err != nil {
-		next := itself(a.Err)
+		next, _ := itself(a.Err)
 		if next == nil {
 			parts = append(parts, Text(a.Err))
 			break
@@ -84,7 +84,8 @@ func Kind(err error) api.Kind {
 
 // Where: the place of an error, whatever is wrapped about it; none, if it has none.
 func Where(err error) (p api.Pos) {
-	safely(func() { p = place(err) })
+	ends := finite(err)
+	safely(func() { p = place(err, ends) })
 	return p
 }
 
@@ -129,15 +130,20 @@ func (a *At) head() string {
 	return strconv.Itoa(a.Pos.Line) + ":" + strconv.Itoa(a.Pos.Col)
 }
 
-// itself is err as an *At, and nil if it is none, or only wraps one.
-func itself(err error) (at *At) {
-	safely(func() {
-		var a *At
-		if errors.As(err, &a) && err == error(a) {
-			at = a
-		}
-	})
-	return at
+// itself is err as an *At, whatever it wraps.
+func itself(err error) (*At, bool) {
+	a, found := err.(*At)
+	return a, found
+}
+
+// look finds the first *At that err is or wraps; where that search might not end, it looks at err alone.
+func look(err error, ends bool) (*At, bool) {
+	if !ends {
+		return itself(err)
+	}
+	var a *At
+	found := errors.As(err, &a)
+	return a, found
 }
 
 func is(err error, k api.Kind) (found bool) {
@@ -146,22 +152,21 @@ func is(err error, k api.Kind) (found bool) {
 }
 
 // place goes on behind each named At, in the order of errors.As: an error may wrap several, and the At that counts may stand beside the first one.
-func place(err error) api.Pos {
+func place(err error, ends bool) api.Pos {
 	rest := []error{err}
 	for n := 0; len(rest) > 0 && n < most; n++ {
 		e := rest[len(rest)-1]
 		rest = rest[:len(rest)-1]
-		var a *At
-		if !errors.As(e, &a) {
-			continue
-		}
-		if a == nil {
+		a, found := look(e, ends)
+		if found && a == nil {
 			return api.Pos{}
 		}
-		if !a.Named {
+		if found && !a.Named {
 			return a.Pos
 		}
-		rest = push(rest, e)
+		if found || !ends {
+			rest = push(rest, e)
+		}
 	}
 	return api.Pos{}
 }

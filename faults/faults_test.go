@@ -28,6 +28,12 @@ func (y yields) As(target any) bool {
 	return ok
 }
 
+// ring is an error that wraps itself.
+type ring struct{}
+
+func (ring) Error() string   { return "ring" }
+func (r ring) Unwrap() error { return r }
+
 // broken is an error whose methods panic when it is nil.
 type broken struct{ err error }
 
@@ -221,12 +227,12 @@ func TestLoops(t *testing.T) { // P1
 	wrapped.Err = wrap(wrapped)
 	list := &faults.At{Named: true, Name: "f"}
 	list.Err = errors.Join(errors.New("odd"), list)
-	lone := &broken{}
-	lone.err = lone
+	lone := ring{}
 	for i, r := range []struct {
 		err  error
 		want api.Pos
-	}{{chain, at(0, 0)}, {wrapped, at(1, 2)}, {list, at(0, 0)}, {&faults.At{Pos: at(3, 4), Err: lone}, at(3, 4)}} {
+	}{{chain, at(0, 0)}, {wrapped, at(1, 2)}, {list, at(0, 0)}, {&faults.At{Pos: at(3, 4), Err: lone}, at(3, 4)}, {faults.In(lone, "f"), at(0, 0)},
+		{errors.Join(wrap(faults.New(api.Name, at(5, 6))), lone), at(5, 6)}, {errors.Join((*faults.At)(nil), faults.New(api.Name, at(5, 6)), chain), at(0, 0)}} {
 		if k := faults.Kind(r.err); k != api.Fault {
 			t.Errorf("%d: %v", i, k)
 		}
@@ -236,6 +242,9 @@ func TestLoops(t *testing.T) { // P1
 		if faults.Text(r.err) == "" || faults.First(nil, r.err) != r.err {
 			t.Errorf("%d: no text", i)
 		}
+	}
+	if k, p := faults.Tell(lone); k != api.Fault || p != at(0, 0) {
+		t.Errorf("%v at %v", k, p)
 	}
 }
 
