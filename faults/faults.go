@@ -18,28 +18,29 @@ type At struct {
 	Err   error
 }
 
-// most is how many errors one may wrap. An At can be made to wrap itself, and would be followed for ever; no honest error comes near that many.
-const most = 1 << 22
-
 // Error: the place, or the name, and what is wrong there.
 func (a *At) Error() string {
 	if a == nil {
 		return "ok"
 	}
-	parts := []string{a.head()}
-	if !finite(a) {
-		return parts[0]
+	head := a.head()
+	// An At that comes back to itself would be told for ever: its own place has to do.
+	if last := a.last(); last == nil || reaches(last.Err, last) {
+		return head
 	}
+	var b strings.Builder
+	b.WriteString(head)
 	for a.Err != nil {
+		b.WriteString(": ")
 		next, _ := itself(a.Err)
 		if next == nil {
-			parts = append(parts, Text(a.Err))
+			b.WriteString(Text(a.Err))
 			break
 		}
-		parts = append(parts, next.head())
+		b.WriteString(next.head())
 		a = next
 	}
-	return strings.Join(parts, ": ")
+	return b.String()
 }
 
 // Unwrap: what is wrong there.
@@ -71,21 +72,34 @@ func Kind(err error) api.Kind {
 	if err == nil {
 		return api.OK
 	}
-	if !finite(err) {
-		return api.Fault
-	}
-	for k := api.Lexic; k < api.Fault; k++ {
-		if is(err, k) {
-			return k
-		}
-	}
-	return api.Fault
+	lowest := api.Fault
+	w := begin(err)
+	w.each(func(e error) {
+		lowest = lower(e, lowest)
+		w.enter(e)
+	})
+	return lowest
 }
 
 // Where: the place of an error, whatever is wrapped about it; none, if it has none.
 func Where(err error) (p api.Pos) {
-	ends := finite(err)
-	safely(func() { p = place(err, ends) })
+	w := begin(err)
+	w.each(func(e error) {
+		a, found := at(e)
+		if found && a == nil {
+			w.stop()
+			return
+		}
+		if found && !a.Named {
+			p = a.Pos
+			w.stop()
+			return
+		}
+		w.enter(e)
+		if found && !equal(e, a) {
+			w.enter(a)
+		}
+	})
 	return p
 }
 
@@ -136,71 +150,65 @@ func itself(err error) (*At, bool) {
 	return a, found
 }
 
-// look finds the first *At that err is or wraps; where that search might not end, it looks at err alone.
-func look(err error, ends bool) (*At, bool) {
-	if !ends {
-		return itself(err)
+// last is the last of the Ats in a row that a begins; nil, if the row goes round. To find that out it keeps one At of the row, and a later one each time the row has become twice as long.
+func (a *At) last() *At {
+	kept := a
+	for n := 1; ; n++ {
+		next, _ := itself(a.Err)
+		if next == nil {
+			return a
+		}
+		if next == kept {
+			return nil
+		}
+		if n&(n-1) == 0 {
+			kept = next
+		}
+		a = next
 	}
-	var a *At
-	found := errors.As(err, &a)
-	return a, found
 }
 
-func is(err error, k api.Kind) (found bool) {
-	safely(func() { found = errors.Is(err, k) })
+// reaches reports whether a is among what err is or wraps.
+func reaches(err error, a *At) (found bool) {
+	w := begin(err)
+	w.each(func(e error) {
+		if found = equal(e, a); found {
+			w.stop()
+			return
+		}
+		w.enter(e)
+	})
 	return found
 }
 
-// place goes on behind each named At, in the order of errors.As: an error may wrap several, and the At that counts may stand beside the first one.
-func place(err error, ends bool) api.Pos {
-	rest := []error{err}
-	for n := 0; len(rest) > 0 && n < most; n++ {
-		e := rest[len(rest)-1]
-		rest = rest[:len(rest)-1]
-		a, found := look(e, ends)
-		if found && a == nil {
-			return api.Pos{}
-		}
-		if found && !a.Named {
-			return a.Pos
-		}
-		if found || !ends {
-			rest = push(rest, e)
-		}
-	}
-	return api.Pos{}
+// equal reports whether err is a itself.
+func equal(err error, a *At) bool {
+	b, found := itself(err)
+	return found && a == b
 }
 
-// finite reports whether going through all that err wraps comes to an end: else errors.Is would not.
-func finite(err error) bool {
-	rest := []error{err}
-	for range most {
-		if len(rest) == 0 {
-			return true
-		}
-		e := rest[len(rest)-1]
-		rest = push(rest[:len(rest)-1], e)
-	}
-	return false
-}
-
-// push lays what err wraps directly on a stack, the first on top.
-func push(rest []error, err error) []error {
-	safely(func() {
-		if e := errors.Unwrap(err); e != nil {
-			rest = append(rest, e)
-			return
-		}
-		// What wraps no single error has nothing below it but its own list, so As finds no other's.
-		var several interface{ Unwrap() []error }
-		if errors.As(err, &several) {
-			l := several.Unwrap()
-			for i := range l {
-				rest = append(rest, l[len(l)-1-i])
+// lower is the lowest kind below k that err is, whatever it wraps; k, if it is none of them.
+func lower(err error, k api.Kind) api.Kind {
+	switch err.(type) {
+	case api.Kind, interface{ Is(error) bool }:
+		for low := api.Lexic; low < k; low++ {
+			if errors.Is(alone{err}, low) {
+				return low
 			}
 		}
-	})
-	return rest
+	}
+	return k
+}
+
+// at is the *At that err is, or gives itself out for, whatever it wraps.
+func at(err error) (a *At, found bool) {
+	switch err.(type) {
+	case *At:
+		return itself(err)
+	case interface{ As(any) bool }:
+		found = errors.As(alone{err}, &a)
+	}
+	return a, found
 }
 
 // safely runs f up to its end or to a panic: the methods of errors from elsewhere may panic, for example those of a nil pointer.
