@@ -41,7 +41,7 @@ func (p *page) equations(l []api.Equation, in int) {
 	}
 }
 
-// equation writes an equation. Blocks may be nested as calls: what lies deeper stands further right, so the text grows too long ahead of the stack.
+// equation writes an equation, and calls itself for those of its blocks: each level stands further right, so that a text of 2^31 - 1 bytes has too few levels to exhaust the stack.
 func (p *page) equation(q *api.Equation, in int) {
 	switch q.Kind {
 	case api.QDef:
