@@ -1,35 +1,12 @@
 package tree
 
-import "metronome/api"
-
-// level is a list of expressions on the way from the root of a tree: those ahead of next have been begun.
-type level struct {
-	list []api.Expr
-	next int
-}
-
-// walk goes through an expression: enter is called for it and for what it contains, each ahead of its kids, and answers those of the kids to go through; leave is called behind them. Its stack is a slice: a tree can be deeper than calls can be nested.
-func walk(e api.Expr, enter func(*api.Expr) []api.Expr, leave func(*api.Expr)) {
-	stack := append(make([]level, 0, 16), level{list: []api.Expr{e}})
-	for {
-		top := &stack[len(stack)-1]
-		if top.next < len(top.list) {
-			kid := &top.list[top.next]
-			top.next++
-			stack = append(stack, level{list: enter(kid)})
-			continue
-		}
-		stack = stack[:len(stack)-1]
-		if len(stack) == 0 {
-			return
-		}
-		above := &stack[len(stack)-1]
-		leave(&above.list[above.next-1])
-	}
-}
+import (
+	"metronome/api"
+	"metronome/walk"
+)
 
 // pass and passBlock stand where a walk has nothing to do.
-func pass(*api.Expr) {}
+func pass(*api.Expr) bool { return true }
 
 func passBlock(*api.Block) {}
 
@@ -47,15 +24,16 @@ func now(e *api.Expr) []api.Expr {
 // reads are the variables that an expression reads in those kids that are asked for. What an EWhen samples comes ahead of the variable that it is sampled by.
 func reads(e api.Expr, kids func(*api.Expr) []api.Expr) []string {
 	var l names
-	walk(e, func(e *api.Expr) []api.Expr {
+	walk.Expr(&e, func(e *api.Expr) []api.Expr {
 		if e.Kind == api.EVar || e.Kind == api.EMerge {
 			l.add(e.Name)
 		}
 		return kids(e)
-	}, func(e *api.Expr) {
+	}, func(e *api.Expr) bool {
 		if e.Kind == api.EWhen {
 			l.add(e.Name)
 		}
+		return true
 	})
 	return l.list
 }
