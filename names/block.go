@@ -5,10 +5,26 @@ import (
 
 	"metronome/api"
 	"metronome/faults"
+	"metronome/walk"
 )
 
-// block checks a block and gathers in d what it defines; exits are what to check last of what sees its variables: the weak ways out of a state.
-func (c *checker) block(b *api.Block, d *defined, exits func() error) error {
+// branches are the arms of an equation that is being checked.
+type branches struct {
+	states map[string]int // of an automaton, each name, and the first arm that has it
+	inner  []defined      // what the blocks of the arms define, as far as they are checked
+}
+
+// block checks a block, and answers what it defines.
+func (c *checker) block(b *api.Block) (defined, error) {
+	c.branches = []branches{{}}
+	err := walk.Block(b, walk.Steps{Enter: c.enter, Begin: c.begin, Arm: c.arm, Exit: c.exit, Leave: c.leave, End: c.end})
+	if err != nil {
+		return defined{}, err
+	}
+	return c.branches[0].inner[0], nil
+}
+
+func (c *checker) enter(b *api.Block) error {
 	for i := range b.Vars {
 		if err := c.declare(&b.Vars[i], false); err != nil {
 			return err
@@ -19,11 +35,7 @@ func (c *checker) block(b *api.Block, d *defined, exits func() error) error {
 			return faults.New(api.Name, v.At)
 		}
 	}
-	c.todo.Then(
-		func() error { return c.equations(b.Eqs, d) },
-		exits,
-		func() error { return c.leave(b, d) },
-	)
+	c.blocks = append(c.blocks, defined{})
 	return nil
 }
 
@@ -34,57 +46,48 @@ func (c *checker) unsampled(on api.On) bool {
 }
 
 // leave ends a block: its own variables have to be defined, and are no longer visible.
-func (c *checker) leave(b *api.Block, d *defined) error {
-	if err := missing(b.Vars, d); err != nil {
+func (c *checker) leave(b *api.Block) error {
+	d := pop(&c.blocks)
+	if err := missing(b.Vars, &d); err != nil {
 		return err
 	}
 	for _, v := range b.Vars {
 		delete(c.vars, v.Name)
 	}
 	d.forget(b.Vars)
+	l := top(c.branches)
+	l.inner = append(l.inner, d)
 	return nil
 }
 
-// equations checks equations, one by one; d is what the block defines ahead of them.
-func (c *checker) equations(l []api.Equation, d *defined) error {
-	if len(l) == 0 {
-		return nil
-	}
-	q := &l[0]
-	c.todo.Then(
-		func() error { return c.equation(q, d) },
-		func() error { return c.equations(l[1:], d) },
-	)
-	return nil
-}
-
-func (c *checker) equation(q *api.Equation, d *defined) error {
+func (c *checker) begin(q *api.Equation) error {
 	switch q.Kind {
 	case api.QDef:
 		if err := c.expr(&q.E); err != nil {
 			return err
 		}
-		return c.define(q, q.Lhs, d)
+		return c.define(q, q.Lhs)
 	case api.QCall:
 		if err := c.call(q); err != nil {
 			return err
 		}
-		return c.define(q, q.Lhs, d)
+		return c.define(q, q.Lhs)
 	case api.QSwitch:
 		if err := c.expr(&q.E); err != nil {
 			return err
 		}
-		c.arms(q, d)
-	case api.QAuto:
-		c.arms(q, d)
-	case api.QReset:
-		c.reset(q, d)
 	}
+	l := branches{states: map[string]int{}}
+	for i, a := range slices.Backward(q.Arms) {
+		l.states[a.Name] = i
+	}
+	c.branches = append(c.branches, l)
 	return nil
 }
 
-// define notes that an equation defines variables: each has to be one that may be defined there, and is not defined yet.
-func (c *checker) define(q *api.Equation, names []string, d *defined) error {
+// define notes that an equation of the block defines variables: each has to be one that may be defined there, and is not defined yet.
+func (c *checker) define(q *api.Equation, names []string) error {
+	d := top(c.blocks)
 	for _, name := range names {
 		if !d.add(name) {
 			return faults.New(api.Twice, q.At)
@@ -111,58 +114,22 @@ func (c *checker) call(q *api.Equation) error {
 	return nil
 }
 
-func (c *checker) reset(q *api.Equation, d *defined) {
-	if len(q.Arms) == 0 {
-		return
-	}
-	var inner defined
-	c.todo.Then(
-		func() error { return c.block(&q.Arms[0].B, &inner, nothing) },
-		func() error { return c.expr(&q.E) },
-		func() error { return c.define(q, inner.list, d) },
-	)
-}
-
-// branches are the arms of an equation that is being checked.
-type branches struct {
-	q      *api.Equation
-	states map[string]int // of an automaton, each name, and the first arm that has it
-	inner  []defined      // what the block of each arm defines
-}
-
-// arms checks the arms of a switch or an automaton, one by one.
-func (c *checker) arms(q *api.Equation, d *defined) {
-	l := &branches{q: q, inner: make([]defined, len(q.Arms)), states: map[string]int{}}
-	for i, a := range slices.Backward(q.Arms) {
-		l.states[a.Name] = i
-	}
-	c.todo.Then(
-		func() error { return c.arm(l, 0) },
-		func() error { return c.complete(l, d) },
-	)
-}
-
-// arm checks the arms from i on.
-func (c *checker) arm(l *branches, i int) error {
-	if i == len(l.q.Arms) {
+func (c *checker) arm(q *api.Equation, i int) error {
+	if q.Kind != api.QAuto {
 		return nil
 	}
-	a := &l.q.Arms[i]
-	exits := nothing
-	if l.q.Kind == api.QAuto {
-		if l.states[a.Name] < i {
-			return faults.New(api.Twice, a.At)
-		}
-		if err := c.ways(a.Unless, l.states); err != nil {
-			return err
-		}
-		exits = func() error { return c.ways(a.Until, l.states) }
+	states := top(c.branches).states
+	if a := &q.Arms[i]; states[a.Name] < i {
+		return faults.New(api.Twice, a.At)
 	}
-	c.todo.Then(
-		func() error { return c.block(&a.B, &l.inner[i], exits) },
-		func() error { return c.arm(l, i+1) },
-	)
-	return nil
+	return c.ways(q.Arms[i].Unless, states)
+}
+
+func (c *checker) exit(q *api.Equation, i int) error {
+	if q.Kind != api.QAuto {
+		return nil
+	}
+	return c.ways(q.Arms[i].Until, top(c.branches).states)
 }
 
 // ways checks ways out of a state.
@@ -178,8 +145,17 @@ func (c *checker) ways(l []api.Trans, states map[string]int) error {
 	return nil
 }
 
-// complete ends the arms: a variable that one of them defines has to be defined by each, if it has no last value.
-func (c *checker) complete(l *branches, d *defined) error {
+// end ends an equation: what its arms define, it defines.
+func (c *checker) end(q *api.Equation) error {
+	switch q.Kind {
+	case api.QDef, api.QCall:
+		return nil
+	case api.QReset:
+		if err := c.expr(&q.E); err != nil {
+			return err
+		}
+	}
+	l := pop(&c.branches)
 	var all defined
 	var needed []string
 	for _, inner := range l.inner {
@@ -189,10 +165,21 @@ func (c *checker) complete(l *branches, d *defined) error {
 			}
 		}
 	}
-	for i, a := range l.q.Arms {
+	// A variable that one arm defines has to be defined by each, if it has no last value.
+	for i, a := range q.Arms {
 		if slices.ContainsFunc(needed, func(name string) bool { return !l.inner[i].set.has(name) }) {
 			return faults.New(api.Name, a.At)
 		}
 	}
-	return c.define(l.q, all.list, d)
+	return c.define(q, all.list)
+}
+
+// top is what was put on a stack last.
+func top[T any](l []T) *T { return &l[len(l)-1] }
+
+// pop takes it off.
+func pop[T any](l *[]T) T {
+	x := *top(*l)
+	*l = (*l)[:len(*l)-1]
+	return x
 }

@@ -9,6 +9,7 @@ import (
 	"metronome/sample"
 	"metronome/show"
 	"metronome/tree"
+	"metronome/types"
 )
 
 func TestValid(t *testing.T) {
@@ -19,8 +20,10 @@ func TestValid(t *testing.T) {
 		if err != nil || !tree.Same(p, q) {
 			t.Fatalf("%d: %v\n%s", i, err, s)
 		}
-		if err := names.Check(q); err != nil {
-			t.Fatalf("%d: %v\n%s", i, err, s)
+		for _, check := range []func(api.Program) error{names.Check, types.Check} {
+			if err := check(q); err != nil {
+				t.Fatalf("%d: %v\n%s", i, err, s)
+			}
 		}
 		if !tree.Same(p, sample.Program(i)) || tree.Same(p, sample.Program(i+1)) {
 			t.Fatalf("%d: not the same for the same number alone", i)

@@ -38,43 +38,17 @@ func reads(e api.Expr, kids func(*api.Expr) []api.Expr) []string {
 	return l.list
 }
 
-// inside is a block that is being gone through: what is left of its equations, and of the arms of the one that was begun last.
-type inside struct {
-	b    *api.Block
-	eqs  []api.Equation
-	arms []api.Arm
-}
-
 // walkBlock goes through a block and those in it: enter is called ahead of the equations of each, leave behind them, and equation for each of them, ahead of its arms.
 func walkBlock(b *api.Block, enter func(*api.Block), equation func(*api.Equation), leave func(*api.Block)) {
-	enter(b)
-	stack := []inside{{b: b, eqs: b.Eqs}}
-	for len(stack) > 0 {
-		top := &stack[len(stack)-1]
-		switch {
-		case len(top.arms) > 0:
-			b := &top.arms[0].B
-			top.arms = top.arms[1:]
-			enter(b)
-			stack = append(stack, inside{b: b, eqs: b.Eqs})
-		case len(top.eqs) > 0:
-			q := &top.eqs[0]
-			top.eqs = top.eqs[1:]
-			equation(q)
-			top.arms = arms(q)
-		default:
-			leave(top.b)
-			stack = stack[:len(stack)-1]
-		}
-	}
+	walk.Block(b, walk.Steps{Enter: endless(enter), Begin: endless(equation), Leave: endless(leave)})
 }
 
-// arms are those of an equation of a kind that has some.
-func arms(q *api.Equation) []api.Arm {
-	if q.Kind == api.QDef || q.Kind == api.QCall {
+// endless is a step that does not end the walk.
+func endless[T any](step func(T)) func(T) error {
+	return func(x T) error {
+		step(x)
 		return nil
 	}
-	return q.Arms
 }
 
 // left are the variables on the left side of an equation of a kind that has one.
@@ -112,7 +86,7 @@ func kids(q *api.Equation, visit func(*api.Expr)) {
 
 // ways calls visit for the conditions of the ways out of the arms of an equation.
 func ways(q *api.Equation, visit func(*api.Expr)) {
-	for _, a := range arms(q) {
+	for _, a := range walk.Arms(q) {
 		for i := range a.Unless {
 			visit(&a.Unless[i].E)
 		}

@@ -39,25 +39,18 @@ func Up(e *api.Expr, visit func(*api.Expr) error) (err error) {
 	return err
 }
 
-// Todo are the steps that are still ahead, the next one last.
-type Todo struct{ steps []func() error }
-
-// Then has steps taken, in their order, ahead of all that are waiting. A step that has to do with what lies deeper calls it as its last act.
-func (t *Todo) Then(steps ...func() error) {
-	for i := range steps {
-		t.steps = append(t.steps, steps[len(steps)-1-i])
+// Fold works something out of an expression: join is called for what it contains, each behind its kids, with what has come out of these, up to the first error. It does not keep the list of these.
+func Fold[T any](e *api.Expr, join func(e *api.Expr, kids []T) (T, error)) (T, error) {
+	var got []T // of the expressions that have been left, and whose parents have not
+	err := Up(e, func(e *api.Expr) error {
+		kids := got[len(got)-len(e.Kids):]
+		x, err := join(e, kids)
+		got = append(got[:len(got)-len(kids)], x)
+		return err
+	})
+	if err != nil {
+		var none T
+		return none, err
 	}
-}
-
-// Run takes the steps, and those that they add, up to the first error.
-func (t *Todo) Run() error {
-	for len(t.steps) > 0 {
-		last := len(t.steps) - 1
-		step := t.steps[last]
-		t.steps = t.steps[:last]
-		if err := step(); err != nil {
-			return err
-		}
-	}
-	return nil
+	return got[0], nil
 }

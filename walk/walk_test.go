@@ -2,6 +2,7 @@ package walk_test
 
 import (
 	"errors"
+	"strings"
 	"testing"
 
 	"metronome/api"
@@ -54,32 +55,72 @@ func TestUp(t *testing.T) {
 	}
 }
 
-func TestTodo(t *testing.T) {
+func TestFold(t *testing.T) {
 	bad := errors.New("bad")
-	for stop, want := range map[string]string{"": "abcdefg", "d": "abcd", "g": "abcdefg"} {
-		var todo walk.Todo
-		s := ""
-		step := func(name string, more ...func() error) func() error {
-			return func() error {
-				s += name
-				if name == stop {
-					return bad
-				}
-				todo.Then(more...)
-				return nil
+	for stop, want := range map[string]string{"": "r(a(b,c(d)),e,f(g))", "d": "", "r": ""} {
+		s, err := walk.Fold(&some, func(e *api.Expr, kids []string) (string, error) {
+			if e.Name == stop {
+				return "x", bad
 			}
-		}
-		todo.Then(step("a", step("b"), step("c", step("d"))), step("e"))
-		todo.Then()
-		err := func() error {
-			if err := todo.Run(); err != nil {
-				return err
+			if len(kids) == 0 {
+				return e.Name, nil
 			}
-			todo.Then(step("f"), step("g"))
-			return todo.Run()
-		}()
+			return e.Name + "(" + strings.Join(kids, ",") + ")", nil
+		})
 		if s != want || (err == bad) != (stop != "") {
 			t.Errorf("up to %q: %s, %v", stop, s, err)
 		}
+	}
+}
+
+// block is one of a variable, for its name, and equations.
+func block(name string, eqs ...api.Equation) api.Block {
+	return api.Block{Vars: []api.Var{{Name: name}}, Eqs: eqs}
+}
+
+func equation(kind byte, name string, blocks ...api.Block) api.Equation {
+	q := api.Equation{Kind: kind, Name: name}
+	for i, b := range blocks {
+		q.Arms = append(q.Arms, api.Arm{Name: name + string(rune('0'+i)), B: b})
+	}
+	return q
+}
+
+func TestBlock(t *testing.T) {
+	b := block("a",
+		equation(api.QDef, "p", block("no")),
+		equation(api.QSwitch, "q", block("b", equation(api.QCall, "r", block("no"))), block("c")),
+		equation(api.QAuto, "s"),
+		equation(api.QReset, "t", block("d")))
+	const whole = "<a p.p; q. [q0 <b r.r; q0] b> [q1 <c q1] c> q; s.s; t. [t0 <d t0] d> t; a>"
+	bad := errors.New("bad")
+	for stop := range strings.SplitSeq("|<a|p.|p;|[q0|<b|r.|q0]|b>|<c|q1]|q;|s.|t;|a>", "|") {
+		s := ""
+		step := func(word string) error {
+			s += word
+			if word == stop {
+				return bad
+			}
+			return nil
+		}
+		err := walk.Block(&b, walk.Steps{
+			Enter: func(b *api.Block) error { return step("<" + b.Vars[0].Name) },
+			Begin: func(q *api.Equation) error { return step(q.Name + ".") },
+			Arm:   func(q *api.Equation, i int) error { return step("[" + q.Arms[i].Name) },
+			Exit:  func(q *api.Equation, i int) error { return step(q.Arms[i].Name + "]") },
+			Leave: func(b *api.Block) error { return step(b.Vars[0].Name + ">") },
+			End:   func(q *api.Equation) error { return step(q.Name + ";") },
+		})
+		want := strings.ReplaceAll(whole, " ", "")
+		if stop != "" {
+			ahead, _, _ := strings.Cut(want, stop)
+			want = ahead + stop
+		}
+		if s != want || (err == bad) != (stop != "") {
+			t.Errorf("up to %q: %s, %v", stop, s, err)
+		}
+	}
+	if err := walk.Block(&b, walk.Steps{}); err != nil {
+		t.Errorf("without steps: %v", err)
 	}
 }
