@@ -18,11 +18,8 @@ import (
 // read is the program of a text; an @ in it marks where its error stands.
 func read(t *testing.T, text string) (api.Program, api.Pos) {
 	t.Helper()
-	var at api.Pos
-	if ahead, _, ok := strings.Cut(text, "@"); ok {
-		at = api.Pos{Line: 1 + strings.Count(ahead, "\n"), Col: len(ahead) - strings.LastIndex(ahead, "\n")}
-	}
-	p, err := parse.Program(strings.Replace(text, "@", "", 1))
+	text, at := sample.Cut(text)
+	p, err := parse.Program(text)
 	if err != nil {
 		t.Fatalf("%s: %v", text, err)
 	}
@@ -319,18 +316,10 @@ func spots(p *api.Program) []*string {
 	return l
 }
 
-// dice are numbers that look thrown, the same in each run.
-type dice uint64
-
-func (d *dice) throw(n int) int {
-	*d = *d*6364136223846793005 + 1442695040888963407
-	return int(*d>>33) % n
-}
-
 func TestSpoilt(t *testing.T) { // P7.1: programs in which one or two names are others, something is not there, or is there twice
 	var found [13]int
 	for i := range 6000 {
-		d := dice(i)
+		d := sample.Dice(i)
 		text := show.Program(sample.Program(uint64(i % 1500)))
 		p, err := parse.Program(text)
 		if err != nil {
@@ -346,8 +335,8 @@ func TestSpoilt(t *testing.T) { // P7.1: programs in which one or two names are 
 		case 1:
 			callAny(&d, &p)
 		default:
-			for range 1 + d.throw(2) {
-				*l[d.throw(len(l))] = *l[d.throw(len(l))]
+			for range 1 + d.Below(2) {
+				*l[d.Below(len(l))] = *l[d.Below(len(l))]
 			}
 		}
 		err, want := names.Check(p), check(p)
@@ -365,18 +354,18 @@ func TestSpoilt(t *testing.T) { // P7.1: programs in which one or two names are 
 }
 
 // drop takes an equation or a variable out of some block, or has an equation twice.
-func drop(d *dice, p *api.Program) {
-	b := &p.Nodes[d.throw(len(p.Nodes))].B
-	for range 1 + d.throw(4) {
+func drop(d *sample.Dice, p *api.Program) {
+	b := &p.Nodes[d.Below(len(p.Nodes))].B
+	for range 1 + d.Below(4) {
 		if len(b.Eqs) == 0 {
 			return
 		}
-		i := d.throw(len(b.Eqs))
+		i := d.Below(len(b.Eqs))
 		if n := len(b.Eqs[i].Arms); n > 0 {
-			b = &b.Eqs[i].Arms[d.throw(n)].B
+			b = &b.Eqs[i].Arms[d.Below(n)].B
 			continue
 		}
-		switch d.throw(3) {
+		switch d.Below(3) {
 		case 0:
 			b.Eqs = slices.Delete(b.Eqs, i, i+1)
 		case 1:
@@ -391,11 +380,11 @@ func drop(d *dice, p *api.Program) {
 }
 
 // callAny has some call be of another node, or of itself.
-func callAny(d *dice, p *api.Program) {
+func callAny(d *sample.Dice, p *api.Program) {
 	for _, n := range p.Nodes {
 		for i := range n.B.Eqs {
-			if q := &n.B.Eqs[i]; q.Kind == api.QCall && d.throw(2) == 0 {
-				q.Name = p.Nodes[d.throw(len(p.Nodes))].Name
+			if q := &n.B.Eqs[i]; q.Kind == api.QCall && d.Below(2) == 0 {
+				q.Name = p.Nodes[d.Below(len(p.Nodes))].Name
 			}
 		}
 	}
@@ -430,11 +419,11 @@ func TestNeedsAndOrder(t *testing.T) { // P7.2
 		t.Errorf("%q", l)
 	}
 	for i := range 20000 {
-		d := dice(i)
-		calls := make([][]int, d.throw(8))
+		d := sample.Dice(i)
+		calls := make([][]int, d.Below(8))
 		for j := range calls {
-			for range d.throw(1 + d.throw(4)) {
-				calls[j] = append(calls[j], d.throw(1+len(calls)))
+			for range d.Below(1 + d.Below(4)) {
+				calls[j] = append(calls[j], d.Below(1+len(calls)))
 			}
 		}
 		p := graph(calls)
@@ -496,18 +485,18 @@ func TestLong(t *testing.T) { // P1: so many nodes, one behind the other, end so
 
 func TestIllFormed(t *testing.T) { // P1: nothing is promised but an end without a panic
 	for i := range 3000 {
-		d := dice(i)
+		d := sample.Dice(i)
 		p := sample.Program(uint64(i % 300))
-		for range 1 + d.throw(5) {
-			b := &p.Nodes[d.throw(len(p.Nodes))].B
+		for range 1 + d.Below(5) {
+			b := &p.Nodes[d.Below(len(p.Nodes))].B
 			for len(b.Eqs) > 0 {
-				q := &b.Eqs[d.throw(len(b.Eqs))]
-				if len(q.Arms) > 0 && d.throw(3) > 0 {
-					b = &q.Arms[d.throw(len(q.Arms))].B
+				q := &b.Eqs[d.Below(len(b.Eqs))]
+				if len(q.Arms) > 0 && d.Below(3) > 0 {
+					b = &q.Arms[d.Below(len(q.Arms))].B
 					continue
 				}
-				q.Kind, q.E.Kind = byte(d.throw(7)), byte(d.throw(15))
-				if d.throw(3) == 0 {
+				q.Kind, q.E.Kind = byte(d.Below(7)), byte(d.Below(15))
+				if d.Below(3) == 0 {
 					q.Lhs, q.Arms, q.E.Names, q.E.Kids = nil, nil, nil, nil
 				}
 				break

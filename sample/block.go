@@ -43,15 +43,15 @@ func (m *maker) block(seen, define []*known, deep int) (api.Block, []*known) {
 		}
 		items = items[n:]
 	}
-	mix(&m.dice, b.Vars)
-	mix(&m.dice, b.Eqs)
+	mix(&m.Dice, b.Vars)
+	mix(&m.Dice, b.Eqs)
 	// A first value is a constant, so variables can be declared in any order.
 	return b, seen
 }
 
-func mix[T any](d *dice, l []T) {
+func mix[T any](d *Dice, l []T) {
 	for i := range l {
-		j := i + d.below(len(l)-i)
+		j := i + d.Below(len(l)-i)
 		l[i], l[j] = l[j], l[i]
 	}
 }
@@ -67,7 +67,7 @@ func (m *maker) plan(seen, define []*known, deep int) ([]*item, []*known) {
 	}
 	left := slices.Clone(define)
 	if len(m.p.Nodes) > 0 && m.once(2) {
-		it := &item{node: &m.p.Nodes[m.below(len(m.p.Nodes))]}
+		it := &item{node: &m.p.Nodes[m.Below(len(m.p.Nodes))]}
 		for _, o := range it.node.Outs {
 			i := slices.IndexFunc(left, func(v *known) bool { return v.T == o.T })
 			if i < 0 || m.once(2) {
@@ -79,7 +79,7 @@ func (m *maker) plan(seen, define []*known, deep int) ([]*item, []*known) {
 		}
 		items = append(items, it)
 	}
-	for range m.below(2 + deep) {
+	for range m.Below(2 + deep) {
 		v := own(m.anyType())
 		v.late = !v.Last && m.once(6)
 		items = append(items, &item{vars: []*known{v}})
@@ -87,7 +87,7 @@ func (m *maker) plan(seen, define []*known, deep int) ([]*item, []*known) {
 	for _, v := range left {
 		items = append(items, &item{vars: []*known{v}})
 	}
-	mix(&m.dice, items)
+	mix(&m.Dice, items)
 	return items, seen
 }
 
@@ -121,9 +121,9 @@ func (m *maker) clock(l []*known) []api.On {
 		if len(l) == 0 {
 			break
 		}
-		v := l[m.below(len(l))]
+		v := l[m.Below(len(l))]
 		if ctors := tree.Ctors(m.p.Enums, v.T); len(ctors) > 0 && len(v.Clock) < 3 {
-			return append(slices.Clone(v.Clock), api.On{Ctor: ctors[m.below(len(ctors))], Var: v.Name})
+			return append(slices.Clone(v.Clock), api.On{Ctor: ctors[m.Below(len(ctors))], Var: v.Name})
 		}
 	}
 	return nil
@@ -162,7 +162,7 @@ func (m *maker) nested(seen []*known, items []*item, deep int) api.Equation {
 	for _, it := range items {
 		vars = append(vars, it.vars...)
 	}
-	switch m.below(3) {
+	switch m.Below(3) {
 	case 0:
 		t := m.switchable()
 		q := api.Equation{Kind: api.QSwitch, E: m.expr(seen, want{t: t, now: true, deep: 2})}
@@ -170,7 +170,7 @@ func (m *maker) nested(seen []*known, items []*item, deep int) api.Equation {
 		return q
 	case 1:
 		q := api.Equation{Kind: api.QAuto}
-		m.arms(&q, []string{"A", "B", "C"}[:1+m.below(3)], seen, vars, deep)
+		m.arms(&q, []string{"A", "B", "C"}[:1+m.Below(3)], seen, vars, deep)
 		return q
 	}
 	inner := inside(seen)
@@ -201,7 +201,7 @@ func same(l, vars []*known) []*known {
 
 // arms makes the arms of a switch or an automaton. A variable with a last value is defined by one of them, and by others by chance.
 func (m *maker) arms(q *api.Equation, names []string, seen, vars []*known, deep int) {
-	always := m.below(len(names))
+	always := m.Below(len(names))
 	for i, name := range names {
 		inner := inside(seen)
 		define := same(inner, vars)
@@ -218,14 +218,14 @@ func (m *maker) arms(q *api.Equation, names []string, seen, vars []*known, deep 
 		q.Arms = append(q.Arms, a)
 	}
 	if q.Kind == api.QSwitch {
-		mix(&m.dice, q.Arms)
+		mix(&m.Dice, q.Arms)
 	}
 }
 
 func (m *maker) ways(states []string, seen []*known, now bool) []api.Trans {
 	var l []api.Trans
-	for range m.below(3) {
-		l = append(l, api.Trans{E: m.condition(seen, now), To: states[m.below(len(states))], Resume: m.once(2)})
+	for range m.Below(3) {
+		l = append(l, api.Trans{E: m.condition(seen, now), To: states[m.Below(len(states))], Resume: m.once(2)})
 	}
 	return l
 }

@@ -24,7 +24,7 @@ func (m *maker) expr(seen []*known, w want) api.Expr {
 		return m.leaf(seen, w)
 	}
 	w.deep--
-	choice := m.below(9)
+	choice := m.Below(9)
 	switch {
 	case choice == 0:
 		return m.choose(seen, w)
@@ -58,7 +58,7 @@ func (m *maker) leaf(seen []*known, w want) api.Expr {
 	if len(l) == 0 || m.once(6) {
 		return m.constant(w.t)
 	}
-	return l[m.below(len(l))]
+	return l[m.Below(len(l))]
 }
 
 // lateExpr makes an expression that may be undefined at first.
@@ -99,9 +99,9 @@ func (m *maker) merge(seen []*known, w want) api.Expr {
 	if len(l) == 0 {
 		return m.leaf(seen, w)
 	}
-	v := l[m.below(len(l))]
+	v := l[m.Below(len(l))]
 	ctors := tree.Ctors(m.p.Enums, v.T)
-	mix(&m.dice, ctors)
+	mix(&m.Dice, ctors)
 	e := api.Expr{Kind: api.EMerge, Name: v.Name, Names: ctors}
 	for _, ctor := range ctors {
 		kid := w
@@ -118,19 +118,19 @@ func (m *maker) operation(seen []*known, w want) api.Expr {
 		if m.once(5) {
 			return api.Expr{Kind: api.EUn, Op: api.Neg, Kids: []api.Expr{m.expr(seen, w)}}
 		}
-		return m.binary(seen, w, api.Add+byte(m.below(5)))
+		return m.binary(seen, w, api.Add+byte(m.Below(5)))
 	case api.TBool:
-		switch m.below(4) {
+		switch m.Below(4) {
 		case 0:
 			return api.Expr{Kind: api.EUn, Op: api.Not, Kids: []api.Expr{m.expr(seen, w)}}
 		case 1:
 			w.t = m.anyType()
-			return m.binary(seen, w, api.Eq+byte(m.below(2)))
+			return m.binary(seen, w, api.Eq+byte(m.Below(2)))
 		case 2:
 			w.t = api.Type{Kind: api.TInt}
-			return m.binary(seen, w, api.Lt+byte(m.below(4)))
+			return m.binary(seen, w, api.Lt+byte(m.Below(4)))
 		}
-		return m.binary(seen, w, api.And+byte(m.below(3)))
+		return m.binary(seen, w, api.And+byte(m.Below(3)))
 	}
 	return m.choose(seen, w)
 }

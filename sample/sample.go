@@ -10,23 +10,23 @@ import (
 
 // Program is a valid program: of each number another one, of the same number always the same.
 func Program(number uint64) api.Program {
-	m := &maker{dice: dice(number)}
+	m := &maker{Dice: Dice(number)}
 	m.enums()
-	for i := range 1 + m.below(3) {
+	for i := range 1 + m.Below(3) {
 		m.node("fgh"[i : i+1])
 	}
 	for i := range m.p.Nodes {
-		j := i + m.below(len(m.p.Nodes)-i)
+		j := i + m.Below(len(m.p.Nodes)-i)
 		m.p.Nodes[i], m.p.Nodes[j] = m.p.Nodes[j], m.p.Nodes[i]
 	}
 	return m.p
 }
 
-// dice are numbers that look as if by chance (splitmix).
-type dice uint64
+// Dice are numbers that look as if by chance (splitmix).
+type Dice uint64
 
-// below is a number from 0 to n - 1.
-func (d *dice) below(n int) int {
+// Below is a number from 0 to n - 1.
+func (d *Dice) Below(n int) int {
 	*d += 0x9e3779b97f4a7c15
 	z := uint64(*d)
 	z = (z ^ z>>30) * 0xbf58476d1ce4e5b9
@@ -35,11 +35,11 @@ func (d *dice) below(n int) int {
 }
 
 // once is true once in n times.
-func (d *dice) once(n int) bool { return d.below(n) == 0 }
+func (d *Dice) once(n int) bool { return d.Below(n) == 0 }
 
 // maker is what makes a program, and what it has made of it so far: nodes call only those that are ahead of them.
 type maker struct {
-	dice
+	Dice
 	p api.Program
 }
 
@@ -54,9 +54,9 @@ type known struct {
 // enums makes up to two types. Their constructors are A, B ..: so are the states of automata.
 func (m *maker) enums() {
 	ctor := 0
-	for i := range m.below(3) {
+	for i := range m.Below(3) {
 		t := api.Enum{Name: "st"[i : i+1]}
-		for range 1 + m.below(3) {
+		for range 1 + m.Below(3) {
 			t.Ctors = append(t.Ctors, "ABCDEF"[ctor:ctor+1])
 			ctor++
 		}
@@ -65,7 +65,7 @@ func (m *maker) enums() {
 }
 
 func (m *maker) anyType() api.Type {
-	i := m.below(3 + len(m.p.Enums))
+	i := m.Below(3 + len(m.p.Enums))
 	if i < 3 {
 		return api.Type{Kind: []byte{api.TInt, api.TInt, api.TBool}[i]}
 	}
@@ -84,12 +84,12 @@ func (m *maker) switchable() api.Type {
 func (m *maker) constant(t api.Type) api.Expr {
 	if t.Kind != api.TInt {
 		l := tree.Ctors(m.p.Enums, t)
-		return tree.Pick(t, l[m.below(len(l))])
+		return tree.Pick(t, l[m.Below(len(l))])
 	}
 	if m.once(9) {
-		return tree.Int([]int32{-1 << 31, 1<<31 - 1, -1}[m.below(3)])
+		return tree.Int([]int32{-1 << 31, 1<<31 - 1, -1}[m.Below(3)])
 	}
-	return tree.Int(int32(m.below(9)))
+	return tree.Int(int32(m.Below(9)))
 }
 
 // variable makes one with a name that isn't seen, so blocks that don't see each other have variables of the same names.
@@ -107,13 +107,13 @@ func (m *maker) variable(seen []*known, t api.Type, rarely int) *known {
 func (m *maker) node(name string) {
 	n := api.Node{Name: name}
 	var seen, outs []*known
-	for range m.below(4) {
+	for range m.Below(4) {
 		v := m.variable(seen, m.anyType(), 6)
 		v.ready = true
 		seen = append(seen, v)
 		n.Ins = append(n.Ins, v.Var)
 	}
-	for range 1 + m.below(3) {
+	for range 1 + m.Below(3) {
 		v := m.variable(seen, m.anyType(), 4)
 		seen, outs = append(seen, v), append(outs, v)
 		n.Outs = append(n.Outs, v.Var)

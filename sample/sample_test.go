@@ -4,6 +4,7 @@ import (
 	"testing"
 
 	"metronome/api"
+	"metronome/clocks"
 	"metronome/names"
 	"metronome/parse"
 	"metronome/sample"
@@ -20,7 +21,7 @@ func TestValid(t *testing.T) {
 		if err != nil || !tree.Same(p, q) {
 			t.Fatalf("%d: %v\n%s", i, err, s)
 		}
-		for _, check := range []func(api.Program) error{names.Check, types.Check} {
+		for _, check := range []func(api.Program) error{names.Check, types.Check, clocks.Check} {
 			if err := check(q); err != nil {
 				t.Fatalf("%d: %v\n%s", i, err, s)
 			}

@@ -9,23 +9,15 @@ import (
 	"metronome/faults"
 	"metronome/names"
 	"metronome/parse"
+	"metronome/sample"
 	"metronome/tree"
 	"metronome/types"
 )
 
-// cut takes the @ out of a text, which marks where its error stands.
-func cut(text string) (string, api.Pos) {
-	ahead, behind, ok := strings.Cut(text, "@")
-	if !ok {
-		return text, api.Pos{}
-	}
-	return ahead + behind, api.Pos{Line: 1 + strings.Count(ahead, "\n"), Col: len(ahead) - strings.LastIndex(ahead, "\n")}
-}
-
 // read is the program of a text, and where its error stands.
 func read(t *testing.T, text string) (api.Program, api.Pos) {
 	t.Helper()
-	text, at := cut(text)
+	text, at := sample.Cut(text)
 	p, err := parse.Program(text)
 	if err == nil {
 		err = names.Check(p)
@@ -77,7 +69,7 @@ func TestExpr(t *testing.T) { // P8.1
 		"merge a (Red -> a) (Green -> @-b)": "", "(@-b) when Blue(a)": "", "pre (@-c)": "", "0 fby (@-c)": "", "a -> (@a + b)": "",
 		"1 + (2 * (@3 - true))": "", "not (@1 + true)": "",
 	} {
-		text, at := cut(text)
+		text, at := sample.Cut(text)
 		e, err := parse.Expr(strings.Replace(text, "Blue", "Red", 1))
 		if err != nil {
 			t.Fatalf("%s: %v", text, err)
