@@ -95,7 +95,7 @@ func (m *maker) plan(seen, define []*known, deep int) ([]*item, []*known) {
 func (m *maker) sample(seen, define []*known, items []*item) {
 	var ahead []*known
 	for _, v := range seen {
-		if v.ready && !v.away {
+		if v.ready && !v.away && !v.late {
 			ahead = append(ahead, v)
 		}
 	}

@@ -5,6 +5,7 @@ import (
 
 	"metronome/api"
 	"metronome/clocks"
+	"metronome/inits"
 	"metronome/names"
 	"metronome/parse"
 	"metronome/sample"
@@ -21,7 +22,7 @@ func TestValid(t *testing.T) {
 		if err != nil || !tree.Same(p, q) {
 			t.Fatalf("%d: %v\n%s", i, err, s)
 		}
-		for _, check := range []func(api.Program) error{names.Check, types.Check, clocks.Check} {
+		for _, check := range []func(api.Program) error{names.Check, types.Check, clocks.Check, inits.Check} {
 			if err := check(q); err != nil {
 				t.Fatalf("%d: %v\n%s", i, err, s)
 			}
